@@ -1,0 +1,1 @@
+"""Templates that are put in as text, and exactly which names they catch."""
