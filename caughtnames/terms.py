@@ -1,6 +1,6 @@
 """Terms, bodies and programs: what they are, and what is in them."""
 
-from caughtnames.errors import InvalidBody
+from caughtnames.errors import InvalidBody, InvalidTerm
 from caughtnames.words import is_name, is_parameter
 
 MOST_PARTS = 400
@@ -61,6 +61,12 @@ def parts_of_body(body):
     return parts
 
 
+def need_term(value):
+    """Raise InvalidTerm if value is no term."""
+    if not is_term(value):
+        raise InvalidTerm(value)
+
+
 def levelled_parts(value, kinds, parameters):
     """The parts of value with their levels, in the order of text, or None.
 
@@ -88,6 +94,20 @@ def parts_within(part):
     if part[0] in BINDER_KINDS:
         return part[2:]
     return ()
+
+
+def term_of(rows):
+    """The term whose parts are given in the order of text.
+
+    Each part is given by its kind, its name, and the number of parts directly within it.
+    """
+    built = []
+    # From the last part to the first one, so that the parts within a part are there
+    # before it, the first of them at the end of the list.
+    for kind, name, many in rows[::-1]:
+        inner = tuple([built.pop() for step in range(many)])
+        built.append((kind, name, inner) if kind == "op" else (kind, name, *inner))
+    return built[0]
 
 
 def is_part(value, kinds, parameters):

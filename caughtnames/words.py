@@ -6,7 +6,12 @@ LONGEST_NAME = 6
 
 def is_integer(value, low, high):
     """True if value is an integer from low to high; True and False are none."""
-    return isinstance(value, int) and not isinstance(value, bool) and low <= value <= high
+    return is_any_integer(value) and low <= value <= high
+
+
+def is_any_integer(value):
+    """True if value is an integer, however great; True and False are none."""
+    return isinstance(value, int) and not isinstance(value, bool)
 
 
 def is_name(value):
