@@ -2,6 +2,9 @@
 
 import random
 
+from caughtnames.books import Book
+from caughtnames.templates import Template
+
 
 class Chance:
     """Makes bodies with some names, some parameters, and calls of some templates.
@@ -56,3 +59,18 @@ class Chance:
         return ("call", name, tuple(
             self.body(share, levels - 1) if parameter.startswith("?") else ("name", self.name_within())
             for parameter, share in zip(parameters, shares)))
+
+
+def book_and_program(seed, many=8, most=20):
+    """A book, and a program that calls its templates."""
+    chance = Chance(seed, wanted=True)
+    signs = chance.random
+    templates = []
+    for name in "tuvwk"[:signs.randrange(1, 6)]:
+        parameters = ["?h", "?k", "?m"][:signs.choice([0, 1, 1, 2, 3])] + ["$n", "$p"][:signs.choice([0, 0, 1, 2])]
+        signs.shuffle(parameters)
+        chance.parameters = parameters
+        templates.append(Template(name, parameters, chance.body(signs.randrange(1, many))))
+        chance.templates.append((name, parameters))
+    chance.parameters, chance.wanted = [], False
+    return Book(templates), chance.body(signs.randrange(1, most))

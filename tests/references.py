@@ -76,3 +76,40 @@ def parts_in_text(term):
     """The parts of a term in the order of text."""
     inner = {"name": (), "op": term[2:3]}.get(term[0], (term[2:],))
     return [term] + [part for row in inner for other in row for part in parts_in_text(other)]
+
+
+def expanded(book, part, passed=()):
+    """A part of a program with all calls replaced, each as soon as its arguments are.
+
+    Around what replaces a call stands a part of the kind "replaced" with it.
+    """
+    passed = dict(passed)
+    kind, name = part[0], passed.get(part[1], part[1])
+    if kind == "name":
+        return ("name", name)
+    if kind == "hole":
+        return passed["?" + name]
+    if kind == "call":
+        arguments = [expanded(book, argument, passed) for argument in part[2]]
+        row = [
+            argument if parameter[0] == "?" else argument[1]
+            for parameter, argument in zip(book[name].parameters, arguments)]
+        return ("replaced", "", expanded(book, book[name].body, zip(book[name].parameters, row)))
+    if kind == "op":
+        return ("op", name, tuple(expanded(book, inner, passed) for inner in part[2]))
+    return ("let" if kind == "want" else kind, name, expanded(book, part[2], passed), expanded(book, part[3], passed))
+
+
+def without_replaced(part):
+    """An expanded term without the parts around what replaced a call."""
+    if part[0] == "replaced":
+        return without_replaced(part[2])
+    if part[0] == "op":
+        return ("op", part[1], tuple(without_replaced(inner) for inner in part[2]))
+    return part[:2] + tuple(without_replaced(inner) for inner in part[2:])
+
+
+def levels_of(part):
+    """The depth of a part."""
+    inner = part[2] if part[0] == "op" else part[2:]
+    return 1 + max([levels_of(other) for other in inner], default=0)

@@ -1,6 +1,8 @@
 """Values that several tests share."""
 
+from caughtnames.books import Book
 from caughtnames.errors import InvalidName
+from caughtnames.templates import Template
 
 USE = ("name", "a")
 
@@ -11,7 +13,7 @@ def values_of_every_kind():
         None, True, False, 0, 1, -1, 10 ** 29, "", "a", "?a", "$a", "let", "f(x)", "a b\n",
         [], [1, [2]], (), (1, (True,)), {}, {"a": 1, 2: [None]},
         USE, ("op", "f", [USE]), ["name", "a"], ("call", "t", (USE,)),
-        InvalidName("x"), InvalidName,
+        InvalidName("x"), InvalidName, Template("t", [], USE), Template, Book(), Book([Template("t", [], USE)]),
     ]
 
 

@@ -55,7 +55,7 @@ class NothingFromOutside(unittest.TestCase):
 class Form(unittest.TestCase):
     def test_the_package_has_files(self):
         names = [path.name for path, text, tree in files_of_package()]
-        self.assertLessEqual({"__init__.py", "errors.py", "words.py", "terms.py", "values.py"}, set(names))
+        self.assertLessEqual({"__init__.py", "errors.py", "terms.py", "values.py", "expansion.py"}, set(names))
 
     def test_characters_lines_and_words(self):
         for path, text, tree in files_of_package():
