@@ -29,6 +29,14 @@ def need_fitting_calls(body, known):
             raise InvalidCall(call)
 
 
+def need_named(book, name):
+    """Raise InvalidBook or UnknownTemplate unless book is a book with a template of this name."""
+    if not isinstance(book, Book):
+        raise InvalidBook(book)
+    if name not in book:
+        raise UnknownTemplate(name)
+
+
 def need_templates(templates):
     """Raise what Book raises."""
     if not isinstance(templates, (list, tuple)) or len(templates) > MOST_TEMPLATES:

@@ -2,7 +2,8 @@
 
 from caughtnames.books import Book, need_fitting_calls
 from caughtnames.errors import InvalidBook, InvalidProgram, TooLarge
-from caughtnames.terms import GREATEST_DEPTH, MOST_PARTS, is_program, parts_within, term_of
+from caughtnames.terms import GREATEST_DEPTH, MOST_PARTS, is_program, parts_within
+from caughtnames.written import written_parts, written_term
 
 # The key for what a body has by itself, beside the parameters of its holes.
 OWN = ""
@@ -25,16 +26,34 @@ def expanded_size(book, program):
 
 def expand(book, program):
     """The expanded program."""
+    return written_term(written_program(book, program), {})
+
+
+def written_program(book, program):
+    """The parts of the expanded program with their writers. What it raises, expand raises."""
     need_room(book, program)
-    return term_of(expanded_rows(book, program))
+    return written_parts(book, program, {})
 
 
 def need_room(book, program):
     """Raise what expand raises."""
     size = expanded_size(book, program)
+    need_size_and_height(size, heights_of(program, book, template_heights(book)))
+
+
+def need_flat_room(book, name):
+    """Raise TooLarge if the flat body of a template is too large; each of its own holes counts as one part."""
+    sizes = template_sizes(book)[name]
+    heights = template_heights(book)[name]
+    levels = {key: heights[key] if key == OWN else heights[key] + 1 for key in heights}
+    need_size_and_height(sum(list(sizes.values())), levels)
+
+
+def need_size_and_height(size, heights):
+    """Raise TooLarge if a size, or the greatest of some heights, is too great."""
     if size > MOST_PARTS:
         raise TooLarge(size)
-    height = heights_of(program, book, template_heights(book))[OWN]
+    height = max(list(heights.values()))
     if height > GREATEST_DEPTH:
         raise TooLarge(height)
 
@@ -95,37 +114,3 @@ def heights_of(part, book, known):
             for key in heights:
                 total[key] = max(total.get(key, 0), level + heights[key])
     return total
-
-
-def expanded_rows(book, program):
-    """The parts of the expanded program in the order of text, as term_of takes them."""
-    rows = []
-    waiting = [(program, {})]
-    while waiting:
-        part, passed = waiting.pop()
-        kind, name = part[:2]
-        if kind == "hole":
-            waiting.append(passed["?" + name])
-        elif kind == "call":
-            waiting.append((book[name].body, passed_by_call(book[name], part, passed)))
-        else:
-            within = parts_within(part)
-            rows.append(("let" if kind == "want" else kind, passed.get(name, name), len(within)))
-            waiting.extend([(inner, passed) for inner in within[::-1]])
-    return rows
-
-
-def passed_by_call(template, call, passed):
-    """What a call passes for the parameters of a template: a dict.
-
-    It has the name for a name parameter. For a hole it has the argument together with what
-    was passed where the call stands, so that a call in an argument that is put nowhere is
-    not replaced.
-    """
-    row = {}
-    for parameter, argument in zip(template.parameters, call[2]):
-        if parameter.startswith("?"):
-            row[parameter] = (argument, passed)
-        else:
-            row[parameter] = passed.get(argument[1], argument[1])
-    return row

@@ -73,15 +73,20 @@ def shape(part, around):
 
 
 def scoped_parts(term):
-    """The parts of a term in the order of text, each with the scope in which it stands.
+    """What parts_with_scopes returns, for a term only."""
+    need_term(term)
+    return parts_with_scopes(term)
+
+
+def parts_with_scopes(body):
+    """The parts of a body in the order of text, each with the scope in which it stands.
 
     A scope is a dict from the names that have a binder around the part to the number of
     the innermost such binder.
     """
-    need_term(term)
     found = []
     number = 0
-    waiting = [(term, {})]
+    waiting = [(body, {})]
     while waiting:
         part, around = waiting.pop()
         found.append((part, around))

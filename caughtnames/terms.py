@@ -11,6 +11,8 @@ TERM_KINDS = ("name", "op", "let", "each")
 PROGRAM_KINDS = ("name", "op", "let", "each", "call")
 BODY_KINDS = ("name", "op", "let", "each", "call", "hole", "want")
 BINDER_KINDS = ("let", "each", "want")
+# The least term: what a program is at first, and what is filled in where it does not matter.
+PLAIN = ("op", "c", ())
 
 
 def is_term(value):
@@ -96,17 +98,31 @@ def parts_within(part):
     return ()
 
 
+def numbers_within(counts):
+    """The list of the numbers of the parts directly within each part.
+
+    The parts are given, in the order of text, by how many parts are directly within them.
+    """
+    found = []
+    open_numbers = []
+    # From the last part to the first one, so that the parts within a part are there
+    # before it, the first of them at the end of the list.
+    for number, many in list(enumerate(counts))[::-1]:
+        found.append([open_numbers.pop() for step in range(many)])
+        open_numbers.append(number)
+    return found[::-1]
+
+
 def term_of(rows):
-    """The term whose parts are given in the order of text.
+    """The term, or body, whose parts are given in the order of text.
 
     Each part is given by its kind, its name, and the number of parts directly within it.
     """
     built = []
-    # From the last part to the first one, so that the parts within a part are there
-    # before it, the first of them at the end of the list.
+    # From the last part to the first one, as in numbers_within.
     for kind, name, many in rows[::-1]:
         inner = tuple([built.pop() for step in range(many)])
-        built.append((kind, name, inner) if kind == "op" else (kind, name, *inner))
+        built.append((kind, name, inner) if kind in ("op", "call") else (kind, name, *inner))
     return built[0]
 
 

@@ -1,6 +1,7 @@
 """The value of a term: all its lets unfolded; and a term evaluated with a given meaning."""
 
 from caughtnames.errors import InvalidMeaning
+from caughtnames.links import Linked, have_same_value
 from caughtnames.scopes import scoped_parts
 from caughtnames.terms import BINDER_KINDS, parts_within
 
@@ -12,8 +13,8 @@ def value_rows(term):
 
 def same_value(one, other):
     """True if the values of two terms are equal."""
-    first = value_rows(one)
-    return first == value_rows(other)
+    first = linked_rows(one)
+    return have_same_value(first, linked_rows(other))
 
 
 def evaluate(term, functions, values, *, each=None):
@@ -51,18 +52,18 @@ def need_meaning(term, functions, values, each):
             raise InvalidMeaning(None)
 
 
-def numbers_within(parts):
-    """The list of the numbers of the parts directly within each part of a list in the order of text."""
-    found = []
-    open_numbers = []
-    # From the last part to the first one, as in term_of.
-    for number, part in list(enumerate(parts))[::-1]:
-        found.append([open_numbers.pop() for inner in parts_within(part)])
-        open_numbers.append(number)
-    return found[::-1]
+def linked_rows(term):
+    """The parts of a term, as Linked takes them, each use linked to its text binder."""
+    scoped = scoped_parts(term)
+    places = [at for at, (part, around) in enumerate(scoped) if part[0] in BINDER_KINDS]
+    rows = []
+    for part, around in scoped:
+        number = around.get(part[1]) if part[0] == "name" else None
+        rows.append((part[0], part[1], len(parts_within(part)), None if number is None else places[number]))
+    return rows
 
 
-class Unfolding:
+class Unfolding(Linked):
     """The rows of the value of a term, which are found without writing the value out.
 
     The parts of the term have numbers, in the order of text. A part may stand in many
@@ -72,51 +73,10 @@ class Unfolding:
     """
 
     def __init__(self, term):
-        scoped = scoped_parts(term)
-        self.parts = [part for part, around in scoped]
-        self.inner = numbers_within(self.parts)
-        places = [number for number, part in enumerate(self.parts) if part[0] in BINDER_KINDS]
-        binders = [around.get(part[1]) if part[0] == "name" else None for part, around in scoped]
-        # The number of the part that is the text binder of a use, or None.
-        self.binder = [None if number is None else places[number] for number in binders]
-        self.asked = self.asked_eaches()
+        super().__init__(linked_rows(term))
         self.known = {}
         self.listed = []
         self.indexes = {}
-
-    def asked_eaches(self):
-        """For each part, the numbers of the eaches that it asks for, in ascending order."""
-        asked = [()] * len(self.parts)
-        for number in self.numbers_by_end():
-            eaches = [each for inner in self.needed(number) for each in asked[inner]]
-            if self.is_bound(number):
-                eaches = [self.binder[number]]
-            asked[number] = tuple(sorted(set([each for each in eaches if each != number])))
-        return asked
-
-    def numbers_by_end(self):
-        """The numbers of the parts, in the order in which the parts end in the text."""
-        found = []
-        waiting = [0]
-        while waiting:
-            number = waiting.pop()
-            found.append(number)
-            waiting.extend(self.inner[number])
-        return found[::-1]
-
-    def needed(self, number):
-        """The numbers of the parts whose values make the value of a part, in order."""
-        kind = self.parts[number][0]
-        if kind == "let":
-            return self.inner[number][1:]
-        if kind == "name" and self.binder[number] is not None and not self.is_bound(number):
-            return self.inner[self.binder[number]][:1]
-        return self.inner[number]
-
-    def is_bound(self, number):
-        """True if a part is a use whose text binder is an each."""
-        binder = self.binder[number]
-        return binder is not None and self.parts[binder][0] == "each"
 
     def rows_of_value(self):
         """The rows of the value of the whole term."""
@@ -152,7 +112,7 @@ class Unfolding:
 
     def index_of_value(self, number, key, indexes):
         """The index of the row for a part, when those of the parts that make its value are known."""
-        kind, name = self.parts[number][:2]
+        kind, name = self.parts[number]
         if kind == "op":
             return self.index_of_row(("op", name, tuple(indexes)))
         if kind == "each":

@@ -157,6 +157,15 @@ class Rows(unittest.TestCase):
         self.assertEqual(len(rows_of_text(many_rows_text(3))), len(rows_of(value_of(read_term(many_rows_text(3))))))
         self.assertGreater(len(rows_of_text(many_rows_text(10))), 1000)
 
+    def test_values_too_large_to_be_listed(self):
+        text = many_rows_text(16).replace("c()", "f(xa, xb)")
+        for other, same in [
+            (text.replace("z", "w").replace("y", "zz"), True), (text.replace("f(xa, xb)", "f(xb, xa)"), False),
+            (text.replace("f(xa, xb)", "let w = xa in f(w, xb)"), True), (text.replace("f(xa, xb)", "f(xa, xa)"), False),
+        ]:
+            self.assertIs(same_value(read_term(text), read_term(other)), same)
+            self.assertIs(same_value(read_term(other), read_term(text)), same)
+
     def test_values_as_deep_as_all_parts(self):
         text = ""
         parts = 2
